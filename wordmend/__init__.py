@@ -1,0 +1,1 @@
+"""Wordmend: a keeper of words."""
