@@ -32,3 +32,10 @@ def no_texts():
         b"", b"a", b"abc", bytearray(b"a"),
         str, len, object(), Unwilling(), Unwilling,
     ]
+
+
+def no_wholes():
+    """Things of many kinds, none of them a whole number; made anew at each call."""
+    others = [thing for thing in no_texts()
+              if isinstance(thing, bool) or not isinstance(thing, int)]
+    return others + ["", "0", "1", "7", "-1", "one", " 1", [0], [1], (1,), {1: 1}, b"1"]
