@@ -102,7 +102,13 @@ class Machine:
 
     def copied(self):
         """Tell another machine alike."""
-        return Machine(self.words())
+        other = Machine()
+        # States stay as they are made, so both may go on from the same ones.
+        other._nothing = self._nothing
+        other._states = {key: self._states[key] for key in self._states}
+        other._needs = {state: self._needs[state] for state in self._needs}
+        other.first = self.first
+        return other
 
     def _way(self, word):
         """Tell the states on the way of a word, the first one and nothing too."""
